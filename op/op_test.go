@@ -388,13 +388,27 @@ func TestP52FirstError(t *testing.T) {
 		{"+2.1 2.1 6A", api.ErrForm},
 		{"-0.1 - 61", api.ErrForm},
 		{"-0.1 ", api.ErrForm},
-		// the first id's error ahead of the other one's
-		{"+0.1 01.1 61", api.ErrRange},
-		{"+1.1001 x 61", api.ErrRange},
+		// the form of either id ahead of the range of either
+		{"+0.1 01.1 61", api.ErrForm},
+		{"+0.1 x 61", api.ErrForm},
+		{"+0.1 ? 61", api.ErrForm},
+		{"+1.1001 x 61", api.ErrForm},
+		{"+1.1001 1 61", api.ErrForm},
+		{"+1048577.1 01.1 61", api.ErrForm},
+		{"+9999999.1  1", api.ErrForm},
+		{"+9999999.1  61", api.ErrForm},
+		{"+0.1 1.1. 61", api.ErrForm},
+		{"+0.1 0.1.1 61", api.ErrForm},
+		{"+0.1 -- 61", api.ErrForm},
 		{"+01.1 0.1 61", api.ErrForm},
 		{"+x 1.1001 61", api.ErrForm},
+		{"+ 1.1001 61", api.ErrForm},
 		// the other id's form ahead of the first one's being None, which the Check tells
 		{"+- 01.1 61", api.ErrForm},
+		// the range of either id, where both are written so
+		{"+0.1 0.1 61", api.ErrRange},
+		{"+1.1001 - 61", api.ErrRange},
+		{"+1.1 1048577.1 61", api.ErrRange},
 		{"+- 1.1001 61", api.ErrRange},
 		// the ids' errors ahead of the Check's
 		{"+2.1 x 1f", api.ErrForm},
@@ -417,9 +431,11 @@ func TestP52FirstError(t *testing.T) {
 	}
 }
 
+const formOfID = `-|(?:0|[1-9][0-9]*)\.(?:0|[1-9][0-9]*)`
+
 var (
-	formOfInsert = regexp.MustCompile(`\A\+([^ ]*) ([^ ]*) (0|[1-9a-f][0-9a-f]{0,5})\z`)
-	formOfDelete = regexp.MustCompile(`(?s)\A-(.*)\z`)
+	formOfInsert = regexp.MustCompile(`\A\+(` + formOfID + `) (` + formOfID + `) (0|[1-9a-f][0-9a-f]{0,5})\z`)
+	formOfDelete = regexp.MustCompile(`\A-(` + formOfID + `)\z`)
 )
 
 // wantParse tells what Parse must answer, by other means.
