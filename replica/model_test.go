@@ -29,7 +29,7 @@ type elem struct {
 	dead       bool
 }
 
-// model is what a replica must have, reckoned without the layers that it calls. The
+// model is what a replica must have, reckoned without versions and cursors. The
 // zero one is that of the zero replica. No call writes to its lists.
 type model struct {
 	site    int
